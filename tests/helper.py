@@ -1,0 +1,524 @@
+"""What the tests share: a book of their own, bars found by trying all, and records and days made by a fixed seed.
+
+Nothing here imports the package: it says once more, in another way, what the document says.
+"""
+
+import random
+
+RULES = ("late", "price", "time")
+MEMBERS = ("ann", "bob", "cy")
+PRICES = (9, 10, 11)
+
+ROWS = (
+    ("order", "ann", "buy", 10, 3, ()),
+    ("order", "bob", "buy", 10, 2, ()),
+    ("prints", ((10, 1, None), (10, 1, 0))),
+    ("prints", ((10, 1, None),)),
+)
+RECORD = ("time", ROWS)
+
+# Values of every kind that the document calls "any value".
+ANY_VALUES = (
+    0, 1, -1, 2, 10 ** 59, -(10 ** 59), True, False, None, "", "a", "ann", "Ann", "abcdefgh", "abcdefghi", "an n",
+    "ann\n", "buy", "sell", "Buy", "buys", "time", "late", "price", "prices", "open", "1", "-", "order", "closed",
+    (), [], (1,), [1], ((),), ("closed",), ["closed"], ("closed", 1), (10, 1, None), [10, 1, None], (("ann",), []),
+    ("cancel", 0), ("prints", ()), (((((1,),),),),),
+)
+
+
+def own_fills(row):
+    return {"order": lambda: row[5], "prints": lambda: row[1]}.get(row[0], tuple)()
+
+
+def opposite(side):
+    return {"buy": "sell", "sell": "buy"}[side]
+
+
+def crosses(side, price, other_price):
+    """Whether an order of this side and price can trade with one of the other side at the other price."""
+    return price >= other_price if side == "buy" else price <= other_price
+
+
+# ---- records, asked place by place -----------------------------------------------------------------------------
+
+
+def orders_in(rows):
+    return [n for n, row in enumerate(rows) if row[0] == "order"]
+
+
+def rest_of(rows, n, t, i=0):
+    """The size of order n less all that it traded before the place (t, i)."""
+    rest = rows[n][4]
+    for s, row in enumerate(rows):
+        for e, (_, size, k) in enumerate(own_fills(row)):
+            if (s, e) < (t, i) and (s == n or k == n):
+                rest -= size
+        if row[0] == "call" and s < t:
+            rest -= sum(size for k, size in row[2] if k == n)
+    return rest
+
+
+def is_open(rows, n, t, i=0):
+    gone = ("cancel", n) in rows[:t]
+    return rows[n][0] == "order" and n < t and not gone and rest_of(rows, n, t, i) > 0
+
+
+def open_in(rows, t, i=0):
+    return [n for n in orders_in(rows) if is_open(rows, n, t, i)]
+
+
+def closed_before(rows, t):
+    return ("closed",) in rows[:t] and all(row[0] != "call" for row in rows[:t])
+
+
+def took_and_rested(rows, n):
+    return rows[n][5] != () and rest_of(rows, n, n + 1) > 0
+
+
+def front_of(record, n, t, i):
+    """The row since which order n is in front at the place, or None."""
+    rule, rows = record
+    if rule != "time" or not is_open(rows, n, t, i):
+        return None
+    since = []
+    for s, row in enumerate(rows):
+        if any(k == n and (s, e) < (t, i) for e, (_, _, k) in enumerate(own_fills(row))):
+            since.append(s)
+        if row[0] == "call" and s < t and n in [k for k, _ in row[2]]:
+            since.append(s)
+    if took_and_rested(rows, n):
+        since.append(n)
+    return min(since, default=None)
+
+
+def goes_first(rule, k, j):
+    return {"time": k < j, "late": k > j, "price": False}[rule]
+
+
+def better_than(rows, n, x):
+    """Whether order n can be taken at a price that is better than x for who takes it."""
+    return rows[n][3] > x if rows[n][2] == "buy" else rows[n][3] < x
+
+
+def found_bars(record):
+    """All bars of a record, each word by its own search."""
+    rows = record[1]
+    bars = []
+    for t, row in enumerate(rows):
+        for i, fill in enumerate(own_fills(row)):
+            bars += found_at_fill(record, t, i, fill)
+            if row[0] == "order":
+                bars += found_at_taking(record, t, i, fill)
+        bars += found_behind(record, t)
+        if row[0] == "call":
+            bars += found_at_call(record, t)
+    return tuple(sorted(set(bars)))
+
+
+def found_at_fill(record, t, i, fill):
+    rule, rows = record
+    x, _, n = fill
+    own_side = rows[t][2] if rows[t][0] == "order" else None
+    bars = []
+    for k in open_in(rows, t, i):
+        if k == n:
+            continue
+        if better_than(rows, k, x):
+            bars.append(("through", t, i, k, None))
+        if rows[k][3] != x:
+            continue
+        if rows[k][2] == own_side:
+            bars.append(("side", t, i, k, None))
+        elif n is None and front_of(record, k, t, i) is not None:
+            bars.append(("front", t, i, k, front_of(record, k, t, i)))
+        elif n is not None and rows[n][2] == rows[k][2] and goes_first(rule, k, n):
+            bars.append(("ahead", t, i, k, n))
+    return bars
+
+
+def found_at_taking(record, t, i, fill):
+    rule, rows = record
+    x, _, n = fill
+    bars = []
+    for j in range(i):
+        worse = rows[t][5][j][0] > x if rows[t][2] == "buy" else rows[t][5][j][0] < x
+        if worse:
+            bars.append(("worse", t, i, t, j))
+    if n is not None and rest_of(rows, t, t, i + 1) > 0 and rest_of(rows, n, t, i + 1) > 0:
+        bars.append(("short", t, i, t, n))
+    if rule == "late" and n is None:
+        for _, _, k in rows[t][5][:i]:
+            used = k is not None and rows[k][3] == x and rest_of(rows, k, t, i) == 0
+            if used and took_and_rested(rows, k):
+                bars.append(("first", t, i, k, None))
+    return bars
+
+
+def found_behind(record, t):
+    rows = record[1]
+    if closed_before(rows, t + 1):
+        return []
+    there = open_in(rows, t + 1)
+    return [("crossed", t, 0, k, j) for k in there for j in there
+            if rows[k][2] == "buy" and rows[j][2] == "sell" and rows[k][3] >= rows[j][3]]
+
+
+def found_at_call(record, t):
+    rule, rows = record
+    x, pairs = rows[t][1:]
+    bars = []
+    for k in open_in(rows, t) if x is not None else []:
+        if rest_of(rows, k, t + 1) == 0:
+            continue
+        if better_than(rows, k, x):
+            bars.append(("through", t, 0, k, None))
+        for j, _ in pairs:
+            if (rows[j][2], rows[j][3], x) == (rows[k][2], rows[k][3], rows[k][3]) and goes_first(rule, k, j):
+                bars.append(("ahead", t, 0, k, j))
+    return bars
+
+
+def seen_by(record, members):
+    """What the members see, as the definition says it."""
+    rule, rows = record
+    theirs = [n for n in orders_in(rows) if rows[n][1] in members]
+
+    def fills_seen(fills):
+        return tuple((x, size, n if n in theirs else None) for x, size, n in fills)
+
+    def row_seen(n, row):
+        if row[0] == "order" and n not in theirs or row[0] == "prints":
+            return "prints", fills_seen(own_fills(row))
+        if row[0] == "order":
+            return row[:5] + (fills_seen(row[5]),)
+        if row[0] == "cancel" and row[1] not in theirs:
+            return "prints", ()
+        if row[0] == "call":
+            return "call", row[1], tuple(pair for pair in row[2] if pair[0] in theirs)
+        return row
+
+    return rule, tuple(row_seen(n, row) for n, row in enumerate(rows))
+
+
+def groups_in(rows):
+    """All sets of members."""
+    names = sorted({rows[n][1] for n in orders_in(rows)})
+    return sorted(tuple(name for b, name in enumerate(names) if bits >> b & 1) for bits in range(1 << len(names)))
+
+
+# ---- a book, and days that are led through it --------------------------------------------------------------------
+
+
+class DayError(AssertionError):
+    """A day is not by the rule."""
+
+
+def must(holds, told):
+    if not holds:
+        raise DayError(told)
+
+
+class OwnBook:
+    """A book that keeps its rule and can only be told trades that the rule allows."""
+
+    def __init__(self, rule):
+        self.rule = rule
+        self.resting = []
+        self.closed = False
+        self.moments = {}
+
+    def find(self, name):
+        return next((order for order in self.resting if order["name"] == name), None)
+
+    def can_be_next(self, side, price):
+        """The resting orders that an order of this side and price may take from next."""
+        there = [order for order in self.resting if order["side"] != side and crosses(side, price, order["price"])]
+        if not there:
+            return []
+        best = (min if side == "buy" else max)(order["price"] for order in there)
+        there = [order for order in there if order["price"] == best]
+        return {"time": there[:1], "late": there[-1:], "price": there}[self.rule]
+
+    def fill(self, order, size):
+        order["rest"] -= size
+        self.resting = [one for one in self.resting if one["rest"] > 0]
+
+    def come(self, name, member, side, price, size, fills):
+        """An order comes and takes as it is told, or, if fills is a function, as this chooses."""
+        self.moments[name] = [(one["name"], one["member"], one["side"], one["price"], one["rest"])
+                              for one in self.resting]
+        left = size
+        told = []
+        while left and not self.closed and (there := self.can_be_next(side, price)):
+            if callable(fills):
+                order = fills(there)
+            else:
+                must(len(told) < len(fills), ("a fill is missing", name))
+                order = self.find(fills[len(told)][2])
+                must(order in there, ("not its turn", name, fills[len(told)]))
+            lots = min(left, order["rest"])
+            told.append((order["price"], lots, order["name"]))
+            left -= lots
+            self.fill(order, lots)
+        if not callable(fills):
+            must(tuple(told) == fills, ("fills", name, told, fills))
+        if left:
+            self.resting.append({"name": name, "member": member, "side": side, "price": price, "rest": left})
+        return tuple(told)
+
+    def volume(self, price):
+        """How much buys at the price or above, and sells at it or below, have."""
+        return [sum(order["rest"] for order in self.resting
+                    if order["side"] == side and crosses(side, order["price"], price)) for side in ("buy", "sell")]
+
+    def better(self, side, price):
+        return [order for order in self.resting if order["side"] == side and order["price"] != price
+                and crosses(side, order["price"], price)]
+
+    def call_prices(self):
+        prices = {order["price"] for order in self.resting}
+        most = max((min(self.volume(price)) for price in prices), default=0)
+        if most == 0:
+            return [None]
+        return [price for price in range(min(prices), max(prices) + 1) if min(self.volume(price)) == most
+                and all(sum(order["rest"] for order in self.better(side, price)) <= most
+                        for side in ("buy", "sell"))]
+
+    def call_share(self, side, price, chosen):
+        """What the orders of a side are filled at a call, where chosen orders those at the price itself."""
+        left = min(self.volume(price))
+        pairs = []
+        at_price = [order for order in self.resting if order["side"] == side and order["price"] == price]
+        for order in self.better(side, price) + chosen(at_price):
+            lots = min(left, order["rest"])
+            left -= lots
+            if lots:
+                pairs.append((order["name"], lots))
+        must(left == 0, "not all is traded")
+        return pairs
+
+    def call_told(self, price, pairs):
+        must(self.closed, "a call of an open book")
+        must(price in self.call_prices(), ("price", price))
+        self.closed = False
+        if price is None:
+            must(pairs == (), "fills without a price")
+            return
+        told = dict(pairs)
+        must(list(pairs) == sorted(told.items()), "not ascending")
+        must(all(self.find(name) is not None for name in told), "a fill of nobody")
+        for side in ("buy", "sell"):
+            self.must_share(side, price, {name: told[name] for name in told if self.find(name)["side"] == side})
+        for name, size in pairs:
+            self.fill(self.find(name), size)
+
+    def must_share(self, side, price, told):
+        must(sum(told.values()) == min(self.volume(price)), ("not what can be traded", side))
+        if self.rule == "price":
+            must(all(told.get(order["name"]) == order["rest"] for order in self.better(side, price)), "a better one")
+            must(all(0 < told[name] <= self.find(name)["rest"] for name in told), "more than its rest")
+            must(all(crosses(side, self.find(name)["price"], price) for name in told), "not as good as the price")
+        else:
+            turned = {"time": list, "late": lambda there: there[::-1]}[self.rule]
+            must(dict(self.call_share(side, price, turned)) == told, "not by the rule")
+
+
+def lead_act(book, name, act):
+    if act[0] == "order":
+        book.come(name, *act[1:])
+    elif act[0] == "cancel":
+        must(book.find(act[1]) is not None, ("cancel", name))
+        book.resting = [order for order in book.resting if order["name"] != act[1]]
+    elif act[0] == "closed":
+        must(name == (0, 0) and not book.closed, ("closed", name))
+        book.closed = True
+    else:
+        book.call_told(*act[1:])
+
+
+def is_strangers(day, act):
+    steps = day[1]
+    if act[0] == "cancel":
+        s, a = act[1]
+        return steps[s][a][1] is None
+    return act[0] == "order" and act[1] is None
+
+
+def must_be_step(day, s):
+    steps = day[1]
+    for a, act in enumerate(steps[s][:-1]):
+        must(is_strangers(day, act), ("a member's act is not the last one", (s, a)))
+    if steps[s] and not is_strangers(day, steps[s][-1]):
+        must(all(own_fills(act) == () for act in steps[s][:-1]), ("fills before a member's act", s))
+
+
+def led(day):
+    """The book behind all acts of a day, each of which has to be by the rule."""
+    rule, steps = day
+    book = OwnBook(rule)
+    for s, acts in enumerate(steps):
+        must_be_step(day, s)
+        for a, act in enumerate(acts):
+            lead_act(book, (s, a), act)
+    return book
+
+
+def record_told(day):
+    """The record of a day; the day has to be by the rule, act by act."""
+    led(day)
+    rule, steps = day
+
+    def name_seen(name):
+        s, a = name
+        return None if steps[s][a][1] is None else s
+
+    def fills_seen(acts):
+        return tuple((x, size, name_seen(name)) for act in acts for x, size, name in own_fills(act))
+
+    def row_of(acts):
+        if not acts or is_strangers(day, acts[-1]):
+            return "prints", fills_seen(acts)
+        last = acts[-1]
+        if last[0] == "order":
+            return last[:5] + (fills_seen([last]),)
+        if last[0] == "cancel":
+            return "cancel", name_seen(last[1])
+        if last[0] == "call":
+            pairs = [(name_seen(name), size) for name, size in last[2]]
+            return "call", last[1], tuple(sorted(pair for pair in pairs if pair[0] is not None))
+        return last
+
+    return rule, tuple(row_of(acts) for acts in steps)
+
+
+# ---- made records and days ---------------------------------------------------------------------------------------
+
+
+def made_day(rng, rule, many, begins_closed):
+    """A day of an exchange that keeps its rule, with members and strangers."""
+    book = OwnBook(rule)
+    steps = []
+    for s in range(many):
+        acts = []
+        if s == 0 and begins_closed:
+            acts.append(("closed",))
+            book.closed = True
+        else:
+            made_step(rng, book, steps, s, acts)
+        steps.append(tuple(acts))
+    return rule, tuple(steps)
+
+
+def made_step(rng, book, steps, s, acts):
+    for _ in range(rng.choice((0, 0, 1, 1, 2))):
+        acts.append(made_order(rng, book, (s, len(acts)), None))
+    if any(own_fills(act) for act in acts) or rng.random() < 0.15:
+        return
+    if book.closed and rng.random() < 0.2:
+        acts.append(made_call(rng, book))
+    elif book.resting and rng.random() < 0.15:
+        name = rng.choice(book.resting)["name"]
+        book.resting = [order for order in book.resting if order["name"] != name]
+        acts.append(("cancel", name))
+    else:
+        acts.append(made_order(rng, book, (s, len(acts)), rng.choice(MEMBERS)))
+
+
+def made_order(rng, book, name, member):
+    side, price, size = rng.choice(("buy", "sell")), rng.choice(PRICES), rng.randint(1, 4)
+    return ("order", member, side, price, size, book.come(name, member, side, price, size, rng.choice))
+
+
+def made_call(rng, book):
+    price = rng.choice(book.call_prices())
+    pairs = []
+    for side in ("buy", "sell") if price is not None else ():
+        mixed = {"time": list, "late": lambda there: there[::-1],
+                 "price": lambda there: rng.sample(there, len(there))}[book.rule]
+        pairs += book.call_share(side, price, mixed)
+    for name, size in pairs:
+        book.fill(book.find(name), size)
+    book.closed = False
+    return "call", price, tuple(sorted(pairs))
+
+
+def made_fill(rng, rows, side=None):
+    """A fill as it may stand in a record, with the price of the order that it names."""
+    there = [n for n in open_in(rows, len(rows)) if side is None or rows[n][2] != side]
+    if there and rng.random() < 0.5:
+        n = rng.choice(there)
+        return rows[n][3], rng.randint(1, rest_of(rows, n, len(rows))), n
+    return rng.choice(PRICES), rng.randint(1, 2), None
+
+
+def made_row(rng, rows, closed):
+    if closed and rng.random() < 0.15:
+        return made_call_row(rng, rows)
+    there = open_in(rows, len(rows))
+    if there and rng.random() < 0.1:
+        return "cancel", rng.choice(there)
+    if rng.random() < 0.5:
+        fills = () if closed else tuple(made_fill(rng, rows) for _ in range(rng.choice((0, 1, 1, 2, 3))))
+        return "prints", fills
+    side, price, size = rng.choice(("buy", "sell")), rng.choice(PRICES), rng.randint(1, 5)
+    fills = () if closed else tuple(made_fill(rng, rows, side) for _ in range(rng.choice((0, 0, 0, 1, 1, 2, 3))))
+    return "order", rng.choice(MEMBERS), side, price, size, fills
+
+
+def made_call_row(rng, rows):
+    price = rng.choice((None,) + PRICES)
+    there = [n for n in open_in(rows, len(rows)) if price is not None and crosses(rows[n][2], rows[n][3], price)]
+    chosen = [n for n in there if rng.random() < 0.7]
+    return "call", price, tuple((n, rng.randint(1, rest_of(rows, n, len(rows)))) for n in chosen)
+
+
+def can_stand(rows, row):
+    """Whether the fills of a made row leave no rest below 0 and keep its limit."""
+    after = rows + (row,)
+    if row[0] == "order":
+        kept = all(crosses(row[2], row[3], x) for x, _, _ in row[5])
+        if not kept or rest_of(after, len(rows), len(after)) < 0:
+            return False
+    return all(rest_of(after, n, len(after)) >= 0 for n in orders_in(rows))
+
+
+def made_record(rng, rule, many, begins_closed, fair=0.0):
+    """A record by the form; with the chance fair a row is passed over if it brings a bar."""
+    rows = (("closed",),) if begins_closed else ()
+    while len(rows) < many:
+        row = made_row(rng, rows, closed_before(rows, len(rows)))
+        if not can_stand(rows, row):
+            continue
+        after = (rule, rows + (row,))
+        if rng.random() < fair and any(bar[1] == len(rows) for bar in found_bars(after)):
+            continue
+        rows += (row,)
+    return rule, rows
+
+
+def made_records(seed, count, many=8, fair=0.9):
+    """Made records by each rule, some of them with a closed part."""
+    rng = random.Random(seed)
+    for k in range(count):
+        yield made_record(rng, RULES[k % 3], rng.randint(1, many), k % 4 == 0, fair)
+
+
+def made_days(seed, count, many=8):
+    rng = random.Random(seed)
+    for k in range(count):
+        yield made_day(rng, RULES[k % 3], rng.randint(1, many), k % 4 == 0)
+
+
+def thirty_rows(rule):
+    """An explained record of thirty rows, ten orders and five members, with all kinds of rows."""
+    rows = [("closed",), ("order", "ann", "buy", 10, 4, ()), ("order", "bob", "sell", 10, 2, ()),
+            ("order", "cy", "sell", 12, 5, ()), ("call", 10, ((1, 2), (2, 2)))]
+    rows += [("order", "dan", "sell", 11, 6, ()), ("order", "eve", "buy", 9, 6, ())]
+    rows += [("prints", ((11, 1, 5),)), ("prints", ((10, 1, 1),))] * 2
+    rows += [("order", "ann", "buy", 11, 2, ((11, 2, 5),)), ("prints", ((9, 1, 6), (9, 1, 6))), ("cancel", 6)]
+    rows += [("order", "bob", "buy", 8, 2, ()), ("prints", ((8, 1, 14), (11, 1, 5)))]
+    rows += [("order", "cy", "sell", 13, 1, ()), ("order", "dan", "buy", 12, 9, ((11, 1, 5), (12, 5, 3)))]
+    rows += [("prints", ((13, 1, None),)), ("prints", ((13, 2, None), (12, 1, 17)))] + [("prints", ())] * 4
+    rows += [("prints", ((12, 1, 17),)), ("order", "eve", "sell", 14, 1, ()), ("prints", ((13, 1, 16),))]
+    rows += [("cancel", 14), ("cancel", 25), ("prints", ())]
+    return rule, tuple(rows)
