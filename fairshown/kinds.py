@@ -38,7 +38,7 @@ def is_fill(thing):
 
 
 def is_row(thing):
-    if not isinstance(thing, tuple) or not thing:
+    if not isinstance(thing, tuple):
         return False
     if is_order_row(thing) or is_cancel_row(thing) or is_prints_row(thing) or is_call_row(thing):
         return True

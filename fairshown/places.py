@@ -69,6 +69,17 @@ def standing_list(rows):
     return standing
 
 
+def steps_list(rows):
+    """For each row the rests of the open orders before each of its fills, and behind the last one."""
+    return [fill_steps(row, rests) for row, rests in zip(rows, standing_list(rows))]
+
+
+def rests_at(rows, t, i):
+    """The rests of the open orders at the place (t, i)."""
+    rests = standing_list(rows[:t])[t]
+    return rests if i == 0 else fill_steps(rows[t], rests)[i]
+
+
 def is_closed_before(rows, t):
     """Whether the place before row t is in the closed part."""
     if t == 0 or rows[0][0] != "closed":

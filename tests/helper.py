@@ -178,6 +178,57 @@ def found_at_call(record, t):
     return bars
 
 
+def first_fault(record):
+    """What bars a value of the right shape from being a record: a pair (word, at), or else the number of rows."""
+    rows = record[1]
+    for t, row in enumerate(rows):
+        closed = closed_before(rows, t)
+        if row[0] == "closed" and t > 0 or row[0] == "call" and not closed or closed and own_fills(row):
+            return "closed", t
+        if row[0] == "cancel" and row[1] not in open_in(rows[:t], t):
+            return "open", t
+        if row[0] == "call":
+            for i, (n, size) in enumerate(row[2]):
+                words = [("open", n not in open_in(rows[:t], t))]
+                if n in open_in(rows[:t], t):
+                    words += [("price", not crosses(rows[n][2], rows[n][3], row[1])),
+                              ("size", size > rest_of(rows, n, t))]
+                for word, applies in words:
+                    if applies:
+                        return word, (t, i)
+        for i in range(len(own_fills(row))):
+            word = fill_word(rows, t, i)
+            if word:
+                return word, (t, i)
+    return len(rows)
+
+
+def fill_word(rows, t, i):
+    row = rows[t]
+    price, size, n = own_fills(row)[i]
+    if n is not None:
+        if n not in open_in(rows[:t + 1], t, i):
+            return "open"
+        if row[0] == "order" and rows[n][2] == row[2]:
+            return "side"
+        if rows[n][3] != price:
+            return "price"
+    if row[0] == "order" and not crosses(row[2], row[3], price):
+        return "price"
+    if n is not None and size > rest_of(rows, n, t, i):
+        return "size"
+    if row[0] == "order" and size > rest_of(rows, t, t, i):
+        return "size"
+    return None
+
+
+def is_answer(record, row):
+    """Whether the row makes an explained record of one that is explained."""
+    rule, rows = record
+    longer = rule, rows + (row,)
+    return not found_bars(record) and first_fault(longer) == len(rows) + 1 and not found_bars(longer)
+
+
 def seen_by(record, members):
     """What the members see, as the definition says it."""
     rule, rows = record
@@ -225,10 +276,15 @@ class OwnBook:
         self.rule = rule
         self.resting = []
         self.closed = False
-        self.moments = {}
+        # What rests, in the order in which it came: as each order comes, and before the acts of each step.
+        self.as_it_came = {}
+        self.before_step = []
 
     def find(self, name):
         return next((order for order in self.resting if order["name"] == name), None)
+
+    def standing(self):
+        return [(one["name"], one["member"], one["side"], one["price"], one["rest"]) for one in self.resting]
 
     def can_be_next(self, side, price):
         """The resting orders that an order of this side and price may take from next."""
@@ -245,8 +301,7 @@ class OwnBook:
 
     def come(self, name, member, side, price, size, fills):
         """An order comes and takes as it is told, or, if fills is a function, as this chooses."""
-        self.moments[name] = [(one["name"], one["member"], one["side"], one["price"], one["rest"])
-                              for one in self.resting]
+        self.as_it_came[name] = self.standing()
         left = size
         told = []
         while left and not self.closed and (there := self.can_be_next(side, price)):
@@ -358,6 +413,7 @@ def led(day):
     book = OwnBook(rule)
     for s, acts in enumerate(steps):
         must_be_step(day, s)
+        book.before_step.append(book.standing())
         for a, act in enumerate(acts):
             lead_act(book, (s, a), act)
     return book
@@ -442,31 +498,32 @@ def made_call(rng, book):
     return "call", price, tuple(sorted(pairs))
 
 
-def made_fill(rng, rows, side=None):
+def made_fill(rng, rows, prices, side=None):
     """A fill as it may stand in a record, with the price of the order that it names."""
     there = [n for n in open_in(rows, len(rows)) if side is None or rows[n][2] != side]
     if there and rng.random() < 0.5:
         n = rng.choice(there)
         return rows[n][3], rng.randint(1, rest_of(rows, n, len(rows))), n
-    return rng.choice(PRICES), rng.randint(1, 2), None
+    return rng.choice(prices), rng.randint(1, 2), None
 
 
-def made_row(rng, rows, closed):
+def made_row(rng, rows, closed, prices=PRICES):
     if closed and rng.random() < 0.15:
-        return made_call_row(rng, rows)
+        return made_call_row(rng, rows, prices)
     there = open_in(rows, len(rows))
     if there and rng.random() < 0.1:
         return "cancel", rng.choice(there)
     if rng.random() < 0.5:
-        fills = () if closed else tuple(made_fill(rng, rows) for _ in range(rng.choice((0, 1, 1, 2, 3))))
+        fills = () if closed else tuple(made_fill(rng, rows, prices) for _ in range(rng.choice((0, 1, 1, 2, 3))))
         return "prints", fills
-    side, price, size = rng.choice(("buy", "sell")), rng.choice(PRICES), rng.randint(1, 5)
-    fills = () if closed else tuple(made_fill(rng, rows, side) for _ in range(rng.choice((0, 0, 0, 1, 1, 2, 3))))
+    side, price, size = rng.choice(("buy", "sell")), rng.choice(prices), rng.randint(1, 5)
+    many = 0 if closed else rng.choice((0, 0, 0, 1, 1, 2, 3))
+    fills = tuple(made_fill(rng, rows, prices, side) for _ in range(many))
     return "order", rng.choice(MEMBERS), side, price, size, fills
 
 
-def made_call_row(rng, rows):
-    price = rng.choice((None,) + PRICES)
+def made_call_row(rng, rows, prices):
+    price = rng.choice((None,) + prices)
     there = [n for n in open_in(rows, len(rows)) if price is not None and crosses(rows[n][2], rows[n][3], price)]
     chosen = [n for n in there if rng.random() < 0.7]
     return "call", price, tuple((n, rng.randint(1, rest_of(rows, n, len(rows)))) for n in chosen)
@@ -482,11 +539,11 @@ def can_stand(rows, row):
     return all(rest_of(after, n, len(after)) >= 0 for n in orders_in(rows))
 
 
-def made_record(rng, rule, many, begins_closed, fair=0.0):
+def made_record(rng, rule, many, begins_closed, fair, prices):
     """A record by the form; with the chance fair a row is passed over if it brings a bar."""
     rows = (("closed",),) if begins_closed else ()
     while len(rows) < many:
-        row = made_row(rng, rows, closed_before(rows, len(rows)))
+        row = made_row(rng, rows, closed_before(rows, len(rows)), prices)
         if not can_stand(rows, row):
             continue
         after = (rule, rows + (row,))
@@ -496,11 +553,11 @@ def made_record(rng, rule, many, begins_closed, fair=0.0):
     return rule, rows
 
 
-def made_records(seed, count, many=8, fair=0.9):
+def made_records(seed, count, many=8, fair=0.9, prices=PRICES):
     """Made records by each rule, some of them with a closed part."""
     rng = random.Random(seed)
     for k in range(count):
-        yield made_record(rng, RULES[k % 3], rng.randint(1, many), k % 4 == 0, fair)
+        yield made_record(rng, RULES[k % 3], rng.randint(1, many), k % 4 == 0, fair, prices)
 
 
 def made_days(seed, count, many=8):

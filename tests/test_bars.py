@@ -132,8 +132,11 @@ class Words(unittest.TestCase):
         self.none(rows + [order("bob", "sell", 10, 2, (10, 1, None), (10, 1, 0))], ["late", "price"])
         self.none(rows + [order("bob", "sell", 9, 2, (10, 1, 0), (9, 1, None))])
         self.none(rows + [order("bob", "sell", 10, 1, (10, 1, 0)), order("cy", "sell", 10, 1, (10, 1, None))])
-        older = [order("cy", "buy", 10, 1)] + [prints()]
+        older = [order("cy", "buy", 10, 1)]
         self.none(older + [order("bob", "sell", 10, 3, (10, 1, None), (10, 1, 0), (10, 1, None))])
+        took = older + [order("ann", "buy", 10, 2, (9, 1, None))]
+        self.check(took + [order("bob", "sell", 10, 2, (10, 1, 1), (10, 1, 0))], [("through", 1, 0, 0, None)],
+                   ["late", "price"])
 
     def test_short(self):
         self.check([order("ann", "buy", 10, 3), order("bob", "sell", 10, 3, (10, 1, 0), (10, 1, 0), (10, 1, 0))],
@@ -278,13 +281,13 @@ class Calls(unittest.TestCase):
 class Made(unittest.TestCase):
     def test_the_bars_are_those_that_trying_all_finds(self):
         words = set()
-        for fair in (0.0, 0.6, 0.9):
-            for record in made_records(5, 1200, fair=fair):
+        for fair, prices in ((0.0, (9, 10, 11)), (0.6, (9, 10, 11)), (0.9, (10, 11)), (0.3, (10,))):
+            for record in made_records(5, 2000, fair=fair, prices=prices):
                 bars = found_bars(record)
                 words.update(bar[0] for bar in bars)
                 self.assertEqual(bars_of(record), bars)
                 self.assertEqual(first_bar(record), min(bars, key=lambda bar: (bar[1], bar), default=None))
-        self.assertGreaterEqual(words, {"through", "side", "ahead", "front", "short", "worse", "crossed"})
+        self.assertEqual(words, {"through", "side", "ahead", "front", "first", "short", "worse", "crossed"})
 
     def test_each_bar_is_one_and_no_neighbour_is(self):
         for record in made_records(6, 120, fair=0.5):

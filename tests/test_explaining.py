@@ -154,8 +154,8 @@ class Explaining(unittest.TestCase):
 class Made(unittest.TestCase):
     def test_made_records(self):
         explained = 0
-        for fair in (0.4, 0.9, 1.0):
-            for record in made_records(11, 900, many=9, fair=fair):
+        for fair, prices in ((0.4, (9, 10, 11)), (0.9, (9, 10, 11)), (1.0, (10, 11)), (1.0, (10,))):
+            for record in made_records(11, 2000, many=10, fair=fair, prices=prices):
                 bars = found_bars(record)
                 self.assertEqual(is_explained(record), not bars)
                 self.assertEqual(explained_rows(record), min((bar[1] for bar in bars), default=len(record[1])))
@@ -164,7 +164,7 @@ class Made(unittest.TestCase):
                 else:
                     explained += 1
                     self.assertEqual(record_told(day_for(record)), record)
-        self.assertGreater(explained, 1000)
+        self.assertGreater(explained, 4000)
 
     def test_beginnings(self):
         for rule, rows in made_records(12, 100, fair=0.7):

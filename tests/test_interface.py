@@ -15,6 +15,26 @@ INTERFACE = {
         "bars_of": "(record)", "bars_at": "(record, t)", "first_bar": "(record)", "is_bar": "(record, thing)",
     },
     "explaining": {"is_explained": "(record)", "explained_rows": "(record)", "day_for": "(record)"},
+    "records": {
+        "members_of": "(record)", "orders_of": "(record)", "order_at": "(record, n)",
+        "rest_at": "(record, n, t, i=0)", "open_at": "(record, t, i=0)", "is_closed_at": "(record, t)",
+        "prints_of": "(record)", "traded": "(record, n)", "seen": "(record, members)",
+        "with_rule": "(record, rule)", "cut": "(record, t)",
+    },
+    "recordtexts": {"row_text": "(row)", "record_text": "(record)"},
+    "eventtexts": {"event_line": "(event)", "log_lines": "(log)"},
+    "fronts": {
+        "took_as_it_came": "(record, n)", "front_since": "(record, n, t, i=0)", "fronts_at": "(record, t, i=0)",
+        "went_ahead": "(record, n)", "stood_before": "(record, n)",
+    },
+    "groups": {
+        "is_shown_by": "(record, members)", "first_row_shown": "(record, members)", "least_groups": "(record)",
+        "quiet_groups": "(record)",
+    },
+    "answers": {
+        "can_follow": "(record, row)", "answers_to": "(record, member, side, price, size, prices, *, most=3)",
+        "next_prints": "(record, prices, *, size=1)",
+    },
 }
 
 ERROR_FIELDS = {

@@ -16,8 +16,7 @@ METHODS = {
     "join", "keys", "ljust", "lower", "partition", "pop", "remove", "replace", "reverse", "rfind", "rjust", "split",
     "startswith", "strip", "update", "upper", "values", "zfill", "__init__",
 }
-STATEMENTS = (ast.Global, ast.AsyncFunctionDef, ast.Await, ast.Try, ast.Match, ast.Lambda, ast.GeneratorExp, ast.Set,
-              ast.SetComp)
+STATEMENTS = (ast.Global, ast.AsyncFunctionDef, ast.Await, ast.Try, ast.Match, ast.Lambda, ast.GeneratorExp, ast.Set)
 
 
 def files():

@@ -5,8 +5,7 @@ import unittest
 from fairshown.errors import InvalidPaper
 from fairshown.recordchecker import lets_record
 
-from helper import ANY_VALUES, RECORD, ROWS, RULES, closed_before, crosses, made_records, made_row, open_in
-from helper import own_fills, rest_of, thirty_rows
+from helper import ANY_VALUES, RECORD, ROWS, RULES, first_fault, made_records, made_row, own_fills, thirty_rows
 
 BUY = ("order", "ann", "buy", 10, 3, ())
 SELL = ("order", "bob", "sell", 12, 2, ())
@@ -18,50 +17,6 @@ def fault(thing):
         return lets_record(thing)
     except InvalidPaper as error:
         return error.word, error.at
-
-
-def first_fault(record):
-    """The same, found by asking for the rests anew at each place."""
-    rows = record[1]
-    for t, row in enumerate(rows):
-        closed = closed_before(rows, t)
-        if row[0] == "closed" and t > 0 or row[0] == "call" and not closed or closed and own_fills(row):
-            return "closed", t
-        if row[0] == "cancel" and row[1] not in open_in(rows[:t], t):
-            return "open", t
-        if row[0] == "call":
-            for i, (n, size) in enumerate(row[2]):
-                words = [("open", n not in open_in(rows[:t], t))]
-                if n in open_in(rows[:t], t):
-                    words += [("price", not crosses(rows[n][2], rows[n][3], row[1])),
-                              ("size", size > rest_of(rows, n, t))]
-                for word, applies in words:
-                    if applies:
-                        return word, (t, i)
-        for i in range(len(own_fills(row))):
-            word = fill_word(rows, t, i)
-            if word:
-                return word, (t, i)
-    return len(rows)
-
-
-def fill_word(rows, t, i):
-    row = rows[t]
-    price, size, n = own_fills(row)[i]
-    if n is not None:
-        if n not in open_in(rows[:t + 1], t, i):
-            return "open"
-        if row[0] == "order" and rows[n][2] == row[2]:
-            return "side"
-        if rows[n][3] != price:
-            return "price"
-    if row[0] == "order" and not crosses(row[2], row[3], price):
-        return "price"
-    if n is not None and size > rest_of(rows, n, t, i):
-        return "size"
-    if row[0] == "order" and size > rest_of(rows, t, t, i):
-        return "size"
-    return None
 
 
 class Shape(unittest.TestCase):

@@ -1,0 +1,35 @@
+"""Which groups of members can show a breach."""
+
+from fairshown.bars import first_bar
+from fairshown.records import members_of, seen
+
+
+def is_shown_by(record, members):
+    return first_row_shown(record, members) is not None
+
+
+def first_row_shown(record, members):
+    bar = first_bar(seen(record, members))
+    return None if bar is None else bar[1]
+
+
+def least_groups(record):
+    showing = [group for group in groups_of(record) if is_shown_by(record, group)]
+    return tuple([group for group in showing if not any([is_proper_part(part, group) for part in showing])])
+
+
+def quiet_groups(record):
+    quiet = [group for group in groups_of(record) if not is_shown_by(record, group)]
+    return tuple([group for group in quiet if not any([is_proper_part(group, whole) for whole in quiet])])
+
+
+def groups_of(record):
+    """All groups of the record, ascending."""
+    groups = [()]
+    for member in members_of(record):
+        groups = groups + [group + (member,) for group in groups]
+    return sorted(groups)
+
+
+def is_proper_part(part, group):
+    return len(part) < len(group) and all([member in group for member in part])
