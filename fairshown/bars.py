@@ -29,6 +29,12 @@ def first_bar(record):
     return None
 
 
+def first_row(record):
+    """The least row that has a bar, or None."""
+    bar = first_bar(record)
+    return None if bar is None else bar[1]
+
+
 def is_bar(record, thing):
     return is_bar_shape(thing) and thing in bars_of(record)
 

@@ -5,17 +5,17 @@ comes in step s, which is the step of row s. key says what it is there for: (t, 
 (t, 1) for the buy and the sell of the call in row t.
 """
 
-from fairshown.bars import bars_of, first_bar
+from fairshown.bars import bars_of, first_row
 from fairshown.places import fill_steps, lots, other_side, row_fills, standing_list
 
 
 def is_explained(record):
-    return first_bar(record) is None
+    return first_row(record) is None
 
 
 def explained_rows(record):
-    bar = first_bar(record)
-    return len(record[1]) if bar is None else bar[1]
+    t = first_row(record)
+    return len(record[1]) if t is None else t
 
 
 def day_for(record):

@@ -1,6 +1,6 @@
 """Which groups of members can show a breach."""
 
-from fairshown.bars import first_bar
+from fairshown.bars import first_row
 from fairshown.records import members_of, seen
 
 
@@ -9,8 +9,7 @@ def is_shown_by(record, members):
 
 
 def first_row_shown(record, members):
-    bar = first_bar(seen(record, members))
-    return None if bar is None else bar[1]
+    return first_row(seen(record, members))
 
 
 def least_groups(record):

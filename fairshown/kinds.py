@@ -86,3 +86,10 @@ def is_price_set(thing):
     if not isinstance(thing, tuple) or not all([is_positive(price) for price in thing]):
         return False
     return all([before < price for before, price in zip(thing, thing[1:])])
+
+
+def is_name_set(thing):
+    """An ascending tuple of names, perhaps empty."""
+    if not isinstance(thing, tuple) or not all([is_name(name) for name in thing]):
+        return False
+    return all([before < name for before, name in zip(thing, thing[1:])])

@@ -280,6 +280,13 @@ class OwnBook:
         self.as_it_came = {}
         self.before_step = []
 
+    def twin(self):
+        """A book with the same orders, that forgets how they came."""
+        twin = OwnBook(self.rule)
+        twin.resting = [dict(order) for order in self.resting]
+        twin.closed = self.closed
+        return twin
+
     def find(self, name):
         return next((order for order in self.resting if order["name"] == name), None)
 
@@ -445,6 +452,98 @@ def record_told(day):
         return last
 
     return rule, tuple(row_of(acts) for acts in steps)
+
+
+def told_fault(own, side, price, size, fills):
+    """The index of the first fill that the book does not let an order have, None if it may have all of them.
+
+    It is the number of fills if one is missing, and 0 if they are no tuple. The book is changed.
+    """
+    if not isinstance(fills, tuple):
+        return 0
+    left = size
+    for k, fill in enumerate(fills):
+        there = [] if left == 0 or own.closed else own.can_be_next(side, price)
+        right = [repr((order["price"], min(left, order["rest"]), order["name"])) for order in there]
+        if repr(fill) not in right:
+            return k
+        left -= fill[1]
+        own.fill(own.find(fill[2]), fill[1])
+    return len(fills) if left and not own.closed and own.can_be_next(side, price) else None
+
+
+def is_whole(thing, least=None):
+    return type(thing) is int and (least is None or thing >= least)
+
+
+def is_called_so(thing):
+    return type(thing) is tuple and len(thing) == 2 and all(is_whole(n, 0) for n in thing)
+
+
+def is_act(thing):
+    if type(thing) is not tuple:
+        return False
+    if thing[:1] == ("order",) and len(thing) == 6:
+        kinds = type(thing[1]) in (str, type(None)), type(thing[2]) is str, is_whole(thing[3]), is_whole(thing[4])
+        return all(kinds) and type(thing[5]) is tuple and all(
+            type(fill) is tuple and len(fill) == 3 and is_whole(fill[0]) and is_whole(fill[1])
+            and is_called_so(fill[2]) for fill in thing[5])
+    if thing[:1] == ("call",) and len(thing) == 3:
+        return (thing[1] is None or is_whole(thing[1])) and type(thing[2]) is tuple and all(
+            type(pair) is tuple and len(pair) == 2 and is_called_so(pair[0]) and is_whole(pair[1])
+            for pair in thing[2])
+    return thing == ("closed",) or thing[:1] == ("cancel",) and len(thing) == 2 and is_called_so(thing[1])
+
+
+def day_fault(thing):
+    """What bars a value from being a day: a pair (word, at), or else the number of its steps."""
+    if type(thing) is not tuple or len(thing) != 2 or type(thing[0]) is not str or type(thing[1]) is not tuple:
+        return "shape", -1
+    rule, steps = thing
+    if not all(type(acts) is tuple and all(is_act(act) for act in acts) for acts in steps):
+        return "shape", -1
+    if rule not in RULES:
+        return "rule", -1
+    book = OwnBook(rule)
+    for s, acts in enumerate(steps):
+        for a, act in enumerate(acts):
+            fault = act_fault(book, steps, s, a)
+            if fault:
+                return fault
+    return len(steps)
+
+
+def act_fault(book, steps, s, a):
+    act, name = steps[s][a], (s, a)
+    ours = act[0] in ("closed", "call") or act[0] == "order" and act[1] is not None
+    if act[0] == "cancel" and act[1] < name and act[1] in book.as_it_came:
+        ours = steps[act[1][0]][act[1][1]][1] is not None
+    alone = act is steps[s][-1] and a == len(steps[s]) - 1 and not any(own_fills(one) for one in steps[s][:a])
+    if act[0] == "closed" and name != (0, 0) or act[0] == "call" and not book.closed or ours and not alone:
+        return "place", name
+    if act[0] == "order":
+        member, side, price, size, fills = act[1:]
+        letters = member is None or 1 <= len(member) <= 8 and member.isascii() and member.isalpha() and member.islower()
+        if not letters or side not in ("buy", "sell") or price < 1 or size < 1:
+            return "order", name
+        k = told_fault(book.twin(), side, price, size, fills)
+        if k is not None:
+            return "fills", (s, a, k)
+        book.come(name, member, side, price, size, fills)
+    elif act[0] == "cancel":
+        if book.find(act[1]) is None:
+            return "cancel", name
+        lead_act(book, name, act)
+    elif act[0] == "call":
+        if act[1] not in book.call_prices():
+            return "price", name
+        try:
+            lead_act(book, name, act)
+        except DayError:
+            return "fills", name
+    else:
+        book.closed = True
+    return None
 
 
 # ---- made records and days ---------------------------------------------------------------------------------------

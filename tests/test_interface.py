@@ -35,6 +35,32 @@ INTERFACE = {
         "can_follow": "(record, row)", "answers_to": "(record, member, side, price, size, prices, *, most=3)",
         "next_prints": "(record, prices, *, size=1)",
     },
+    "takings": {"takings": "(book, side, price, size)"},
+    "calls": {
+        "call_volume": "(book, price)", "call_prices": "(book)", "call_fills": "(book, price)",
+    },
+    "daychecker": {"lets_day": "(thing)"},
+    "rulings": {"rules_of": "(record)", "breaches_by_rule": "(record)"},
+}
+
+# module: {class: {method: its parameters behind self}}; properties have None
+CLASSES = {
+    "books": {"Book": {
+        "__init__": "(rule)", "rule": None, "is_closed": None, "came": None, "order": "(side, price, size)",
+        "order_told": "(side, price, size, fills)", "cancel": "(n)", "close": "()", "call": "()",
+        "call_told": "(price, fills)", "__contains__": "(n)", "__len__": "()", "__iter__": "()", "resting": "()",
+        "rest": "(n)", "best": "(side)", "depth": "(side)", "queue": "(side, price)", "__eq__": "(other)",
+        "copy": "()", "trial": "()",
+    }},
+    "audits": {"Audit": {
+        "__init__": "(rule, members=())", "rule": None, "members": None, "record": None, "view": None, "bars": None,
+        "first": None, "broken": None, "add": "(row)", "let_in": "(member)", "leave": "(member)",
+        "set_rule": "(word)", "go": "(event)", "__call__": "(event)", "__getitem__": "(t)",
+        "__contains__": "(thing)", "__len__": "()", "__iter__": "()", "__eq__": "(other)", "tried": "(*events)",
+        "undo": "()", "do_all": "(*events, keep=False)", "counts": "()", "table": "()", "shown_by": "(*names)",
+        "least": "()", "quiet": "()", "rules": "()", "day": "()", "can_come": "(row)", "ahead": "(n)", "log": "()",
+        "__str__": "()",
+    }},
 }
 
 ERROR_FIELDS = {
@@ -53,6 +79,32 @@ class Interface(unittest.TestCase):
                 self.assertTrue(inspect.isfunction(function), name)
                 self.assertEqual(function.__module__, "fairshown." + module, name)
                 self.assertEqual(str(inspect.signature(function)), parameters, name)
+
+    def test_methods_are_defined_in_their_classes(self):
+        for module, classes in CLASSES.items():
+            found = importlib.import_module("fairshown." + module)
+            for name, methods in classes.items():
+                made = vars(found)[name]
+                self.assertTrue(inspect.isclass(made), name)
+                self.assertEqual(made.__module__, "fairshown." + module, name)
+                for method, parameters in methods.items():
+                    self.method(vars(made)[method], parameters)
+
+    def method(self, method, parameters):
+        if parameters is None:
+            self.assertIsInstance(method, property)
+            return
+        self.assertTrue(inspect.isfunction(method), method)
+        signature = inspect.signature(method)
+        kept = list(signature.parameters.values())[1:]
+        self.assertEqual(str(signature.replace(parameters=kept)), parameters, method)
+
+    def test_generators(self):
+        for module, name in (("answers", "answers_to"), ("takings", "takings"), ("calls", "call_fills")):
+            found = importlib.import_module("fairshown." + module)
+            self.assertTrue(inspect.isgeneratorfunction(vars(found)[name]), name)
+        books = importlib.import_module("fairshown.books")
+        self.assertTrue(inspect.isgeneratorfunction(books.Book.resting))
 
     def test_errors_take_their_fields(self):
         errors = importlib.import_module("fairshown.errors")
