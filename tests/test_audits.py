@@ -262,7 +262,7 @@ class Reasons(Case):
     def test_shape(self):
         audit = Audit("time", ("ann",))
         for thing in ANY_VALUES + (["join", "bob"], ("join",), ("join", "bob", 1), ("Join", "bob"), ("add", prints()),
-                                   (True, "bob"), ("row", ["prints", ()]), ("join", ("bob",)), ((), ())):
+                                   ("audit", "time"), (True, "bob"), ("row", ["prints", ()]), ("join", ("bob",)), ((), ())):
             if thing != ("prints", ()):
                 self.refused_each_way(audit, thing, "shape")
         for word in ("row", "join", "leave", "rule"):

@@ -141,6 +141,13 @@ class Led(unittest.TestCase):
             self.assertEqual(turned.rest(3), 1)
             self.assertEqual(turned.queue("sell", 9), (3,))
 
+    def test_sizes_above_prices(self):
+        for rule in RULES:
+            book = filled(rule, ("sell", 1, 5), ("sell", 2, 5), ("sell", 2, 5))
+            fills = ((1, 5, 0), (2, 5, 1 + (rule == "late")), (2, 1, 2 - (rule == "late")))
+            self.assertEqual(book.copy().order("buy", 2, 11), fills)
+            self.assertEqual(book.copy().order_told("buy", 2, 11, fills), fills)
+
     def test_an_open_book_is_never_crossed(self):
         rng = random.Random(12)
         for k in range(60):

@@ -245,10 +245,18 @@ class CallOfABook(unittest.TestCase):
                 self.refused(book, "fills", 9, fills)
             book.call_told(9, ((0, 1), (1, 1), (2, 1), (3, 2), (4, 1)))
 
+    def test_better_orders_wholly_by_price(self):
+        book = shut("price", ("buy", 9, 1), ("sell", 8, 1), ("sell", 9, 1))
+        self.refused(book, "fills", 9, ((0, 1), (2, 1)))
+        book.call_told(9, ((0, 1), (1, 1)))
+        book = shut("price", ("sell", 9, 1), ("buy", 10, 1), ("buy", 9, 1))
+        self.refused(book, "fills", 9, ((0, 1), (2, 1)))
+        book.call_told(9, ((0, 1), (1, 1)))
+
     def test_every_share_tried(self):
         rng = random.Random(36)
         told = {True: 0, False: 0}
-        for k in range(40):
+        for k in range(60):
             book = made_book(rng, RULES[k % 3], 4, (8, 9), 2)
             for price in prices_of(book):
                 for shares in itertools.product(range(4), repeat=4):

@@ -182,6 +182,7 @@ class LetsDay(unittest.TestCase):
             self.fault((rule, ((ann,), (("cancel", (0, 0)),), (("cancel", (0, 0)), stranger))), "place", (2, 0))
             self.fault((rule, ((ann,), (("cancel", (0, 0)),), (("cancel", (0, 0)),))), "cancel", (2, 0))
             # A cancel of a stranger's order, or of none, is a stranger's.
+            self.good(rule, (stranger,), (("cancel", (0, 0)), ann))
             self.good(rule, (stranger, ("cancel", (0, 0)), stranger))
             self.fault((rule, ((stranger,), (("cancel", (0, 0)), ("cancel", (0, 0)), ann))), "cancel", (1, 1))
             self.fault((rule, ((("cancel", (5, 0)), ann),)), "cancel", (0, 0))

@@ -77,6 +77,15 @@ class Takings(unittest.TestCase):
         for fills in takings(book, "buy", 9, 5):
             self.assertEqual(sum(fill[1] for fill in fills), 5)
 
+    def test_sizes_above_prices(self):
+        book = Book("price")
+        for price, size in ((1, 5), (2, 4), (2, 5)):
+            book.order("sell", price, size)
+        self.assertEqual(list(takings(book, "buy", 2, 10)), [((1, 5, 0), (2, 4, 1), (2, 1, 2)),
+                                                             ((1, 5, 0), (2, 5, 2))])
+        self.assertEqual(list(takings(book, "buy", 2, 11)), [((1, 5, 0), (2, 4, 1), (2, 2, 2)),
+                                                             ((1, 5, 0), (2, 5, 2), (2, 1, 1))])
+
     def test_one_by_time_and_by_late(self):
         rng = random.Random(22)
         for k in range(200):
