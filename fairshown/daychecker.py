@@ -6,6 +6,7 @@ numbers has the name (s, a) of each order that came, with its number in the book
 from fairshown.books import Book
 from fairshown.errors import InvalidPaper, NotUsable
 from fairshown.kinds import is_integer, is_name, is_number, is_positive, is_rule, is_side
+from fairshown.places import row_fills
 
 
 def lets_day(thing):
@@ -17,14 +18,19 @@ def lets_day(thing):
         raise InvalidPaper("rule", -1)
     book = Book(rule)
     numbers = {}
-    for s, step in enumerate(steps):
-        for a, act in enumerate(step):
-            if is_misplaced(steps, (s, a), book, numbers):
-                raise InvalidPaper("place", (s, a))
-            lead_act(act, (s, a), book, numbers)
-            if act[0] == "order":
-                numbers[(s, a)] = len(numbers)
+    for s in range(len(steps)):
+        lead_step(steps, s, book, numbers)
     return len(steps)
+
+
+def lead_step(steps, s, book, numbers):
+    """Do to the book what step s says, and number its orders; InvalidPaper if an act is not by the rule."""
+    for a, act in enumerate(steps[s]):
+        if is_misplaced(steps, (s, a), book, numbers):
+            raise InvalidPaper("place", (s, a))
+        lead_act(act, (s, a), book, numbers)
+        if act[0] == "order":
+            numbers[(s, a)] = len(numbers)
 
 
 def is_day_shape(thing):
@@ -84,21 +90,23 @@ def is_misplaced(steps, at, book, numbers):
     act = steps[s][a]
     if act[0] == "closed" and at != (0, 0) or act[0] == "call" and not book.is_closed:
         return True
-    if is_strangers(steps, act, numbers):
+    # A cancel of no order that came is a stranger's.
+    if act[0] == "cancel" and act[1] not in numbers or is_strangers(steps, act):
         return False
-    return a + 1 < len(steps[s]) or any([has_fills(earlier) for earlier in steps[s][:a]])
+    return a + 1 < len(steps[s]) or any([row_fills(earlier) != () for earlier in steps[s][:a]])
 
 
-def is_strangers(steps, act, numbers):
-    """Whether an act is a stranger's; a cancel of no order that came is."""
-    if act[0] == "cancel" and act[1] in numbers:
-        s, a = act[1]
-        return steps[s][a][1] is None
-    return act[0] == "cancel" or act[0] == "order" and act[1] is None
+def is_strangers(steps, act):
+    """Whether an act is a stranger's; if it is a cancel, the order that it names came before."""
+    if act[0] == "cancel":
+        return member_at(steps, act[1]) is None
+    return act[0] == "order" and act[1] is None
 
 
-def has_fills(act):
-    return act[0] == "order" and act[5] != ()
+def member_at(steps, name):
+    """The member of the order (s, a), None for a stranger."""
+    s, a = name
+    return steps[s][a][1]
 
 
 def lead_act(act, at, book, numbers):

@@ -41,6 +41,13 @@ INTERFACE = {
     },
     "daychecker": {"lets_day": "(thing)"},
     "rulings": {"rules_of": "(record)", "breaches_by_rule": "(record)"},
+    "days": {
+        "record_of": "(day)", "members_in": "(day)", "strangers_in": "(day)", "stranger_lots": "(day)",
+        "resting_in": "(day, s)",
+    },
+    "recordreadings": {"row_read": "(text, *, line=0, field=0)", "record_read": "(text)"},
+    "eventreadings": {"read_event": "(text)", "read_log": "(lines)"},
+    "explainchecker": {"lets_explained": "(record, thing)"},
 }
 
 # module: {class: {method: its parameters behind self}}; properties have None
@@ -61,6 +68,7 @@ CLASSES = {
         "least": "()", "quiet": "()", "rules": "()", "day": "()", "can_come": "(row)", "ahead": "(n)", "log": "()",
         "__str__": "()",
     }},
+    "desk": {"Desk": {"__init__": "()", "say": "(row)", "counts": "()"}},
 }
 
 ERROR_FIELDS = {
