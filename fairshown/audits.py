@@ -18,6 +18,8 @@ from fairshown.rulings import rules_of
 
 
 class Audit:
+    """Its events, the first state and the one behind each event; all else is told from these."""
+
     MOST = 60
     ROWS = 30
     ORDERS = 10
@@ -31,7 +33,6 @@ class Audit:
         if len(members) > Audit.MEMBERS:
             raise NotUsable("many", -1)
         self._events = ()
-        # The state of the beginning, and the one behind each event.
         self._states = ((rule, (), members),)
         self._calls = 0
 

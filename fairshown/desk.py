@@ -9,6 +9,8 @@ from fairshown.recordtexts import row_text, text_or_none
 
 
 class Desk:
+    """Rows of text lead its audit; before the first one there is none."""
+
     def __init__(self):
         self._audit = None
         self._calls = 0
@@ -80,7 +82,9 @@ def answer_of_log(audit, word):
         return listed(audit.members)
     if word == "rows":
         return str(len(audit.record[1]))
-    return " / ".join(audit.table()) or "-" if word == "table" else None
+    if word == "table":
+        return " / ".join(audit.table()) or "-"
+    return None
 
 
 def answer_of_record(audit, word):
@@ -97,7 +101,9 @@ def answer_of_record(audit, word):
         return listed([group_text(group) for group in audit.least()])
     if word == "quiet":
         return listed([group_text(group) for group in audit.quiet()])
-    return listed(audit.rules()) if word == "rules" else None
+    if word == "rules":
+        return listed(audit.rules())
+    return None
 
 
 def listed(texts):
