@@ -182,6 +182,14 @@ class Audit:
         self._states = self._states + (state_behind(state, event),)
 
 
+def led_audit(rule, members, events):
+    """A new audit behind these events, which count as no operations of it."""
+    audit = Audit(rule, members)
+    for event in events:
+        audit._take(event)
+    return audit
+
+
 def view_of(state):
     """What the members see; those who have no order in the record yet see what everybody sees."""
     rule, rows, members = state

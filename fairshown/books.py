@@ -2,6 +2,7 @@
 
 from fairshown.calls import are_call_fills, first_call_fills, is_call_price, least_call_price
 from fairshown.errors import NotUsable, UnknownOrder
+from fairshown.held import Held
 from fairshown.kinds import is_integer, is_number, is_positive, is_rule, is_side
 from fairshown.places import lots
 from fairshown.takings import best_price, first_taking, less_fill, queue_at, taking_fault
@@ -15,14 +16,6 @@ class Moment:
         self.once_closed = once_closed
         self.many = many
         self.orders = orders
-
-
-class Held:
-    """A moment to go back to, and what was held before it."""
-
-    def __init__(self, moment, before):
-        self.moment = moment
-        self.before = before
 
 
 class Trial:

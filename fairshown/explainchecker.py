@@ -20,6 +20,14 @@ def lets_explained(record, thing):
     return True
 
 
+def verdict(record, thing):
+    """What lets_explained returns of any value, None if it does not accept it."""
+    try:
+        return lets_explained(record, thing)
+    except InvalidPaper:
+        return None
+
+
 def is_form(thing):
     return isinstance(thing, tuple) and len(thing) == 2 and (thing[0] == "day" or thing[0] == "bar")
 

@@ -13,8 +13,7 @@ def first_row_shown(record, members):
 
 
 def least_groups(record):
-    showing = [group for group in groups_of(record) if is_shown_by(record, group)]
-    return tuple([group for group in showing if not any([is_proper_part(part, group) for part in showing])])
+    return tuple(least_of([group for group in groups_of(record) if is_shown_by(record, group)]))
 
 
 def quiet_groups(record):
@@ -30,5 +29,14 @@ def groups_of(record):
     return sorted(groups)
 
 
+def is_part(part, group):
+    return all([member in group for member in part])
+
+
 def is_proper_part(part, group):
-    return len(part) < len(group) and all([member in group for member in part])
+    return len(part) < len(group) and is_part(part, group)
+
+
+def least_of(groups):
+    """Those of some groups that contain no other one of them."""
+    return [group for group in groups if not any([is_proper_part(part, group) for part in groups])]

@@ -1,5 +1,7 @@
 """Rows and records as texts."""
 
+from fairshown.places import row_fills
+
 
 def row_text(row):
     return " ".join([str(word) for word in row_words(row)])
@@ -7,17 +9,20 @@ def row_text(row):
 
 def record_text(record):
     rule, rows = record
-    return "\n".join([f"record {rule}"] + [row_text(row) for row in rows])
+    lines = [row_text(row) for row in rows]
+    return "\n".join([f"record {rule}", *lines])
 
 
 def row_words(row):
     """The words of a row, numbers as they are."""
+    fills = [fill_text(fill) for fill in row_fills(row)]
     if row[0] == "order":
-        return list(row[:5]) + [fill_text(fill) for fill in row[5]]
+        return [*row[:5], *fills]
     if row[0] == "prints":
-        return ["prints"] + [fill_text(fill) for fill in row[1]]
+        return ["prints", *fills]
     if row[0] == "call":
-        return ["call", text_or_none(row[1])] + [f"{size}@{n}" for n, size in row[2]]
+        pairs = [f"{size}@{n}" for n, size in row[2]]
+        return ["call", text_or_none(row[1]), *pairs]
     return list(row)
 
 

@@ -4,9 +4,11 @@ Nothing here imports the package: it says once more, in another way, what the do
 """
 
 import random
+import unittest
 
 RULES = ("late", "price", "time")
 MEMBERS = ("ann", "bob", "cy")
+NAMES = ("ann", "bob", "cy", "dan", "eve", "flo")
 PRICES = (9, 10, 11)
 
 ROWS = (
@@ -24,6 +26,14 @@ ANY_VALUES = (
     (), [], (1,), [1], ((),), ("closed",), ["closed"], ("closed", 1), (10, 1, None), [10, 1, None], (("ann",), []),
     ("cancel", 0), ("prints", ()), (((((1,),),),),),
 )
+
+
+def order(member, side, price, size, *fills):
+    return "order", member, side, price, size, fills
+
+
+def prints(*fills):
+    return "prints", fills
 
 
 def own_fills(row):
@@ -337,14 +347,22 @@ class OwnBook:
         return [order for order in self.resting if order["side"] == side and order["price"] != price
                 and crosses(side, order["price"], price)]
 
+    def most_traded(self):
+        return max((min(self.volume(order["price"])) for order in self.resting), default=0)
+
+    def can_be_call_price(self, price):
+        """Whether a call can have this price: None if nothing can be traded, otherwise a number."""
+        most = self.most_traded()
+        if most == 0 or price is None:
+            return most == 0 and price is None
+        better = [sum(order["rest"] for order in self.better(side, price)) for side in ("buy", "sell")]
+        return price >= 1 and min(self.volume(price)) == most and max(better) <= most
+
     def call_prices(self):
-        prices = {order["price"] for order in self.resting}
-        most = max((min(self.volume(price)) for price in prices), default=0)
-        if most == 0:
+        if self.most_traded() == 0:
             return [None]
-        return [price for price in range(min(prices), max(prices) + 1) if min(self.volume(price)) == most
-                and all(sum(order["rest"] for order in self.better(side, price)) <= most
-                        for side in ("buy", "sell"))]
+        prices = {order["price"] for order in self.resting}
+        return [price for price in range(min(prices), max(prices) + 1) if self.can_be_call_price(price)]
 
     def call_share(self, side, price, chosen):
         """What the orders of a side are filled at a call, where chosen orders those at the price itself."""
@@ -361,7 +379,7 @@ class OwnBook:
 
     def call_told(self, price, pairs):
         must(self.closed, "a call of an open book")
-        must(price in self.call_prices(), ("price", price))
+        must(self.can_be_call_price(price), ("price", price))
         self.closed = False
         if price is None:
             must(pairs == (), "fills without a price")
@@ -535,7 +553,7 @@ def act_fault(book, steps, s, a):
             return "cancel", name
         lead_act(book, name, act)
     elif act[0] == "call":
-        if act[1] not in book.call_prices():
+        if not book.can_be_call_price(act[1]):
             return "price", name
         try:
             lead_act(book, name, act)
@@ -544,6 +562,53 @@ def act_fault(book, steps, s, a):
     else:
         book.closed = True
     return None
+
+
+# ---- papers, and who holds a bar ---------------------------------------------------------------------------------
+
+
+def explain_answer(record, thing):
+    """What the checker of explain papers has to return, or the fields of its error."""
+    if type(thing) is not tuple or len(thing) != 2 or thing[0] not in ("day", "bar"):
+        return "form", -1
+    word, what = thing
+    if word == "bar":
+        return False if repr(what) in [repr(bar) for bar in found_bars(record)] else ("bar", -1)
+    fault = day_fault(what)
+    if not isinstance(fault, int):
+        return fault
+    told = record_told(what)
+    if told[0] != record[0]:
+        return "by", -1
+    for t in range(max(len(told[1]), len(record[1]))):
+        if told[1][t:t + 1] != record[1][t:t + 1]:
+            return "row", t
+    return True
+
+
+def owners_in(rows, bar):
+    """The members who have to lay their receipts together to show a bar."""
+    word, t, _, k, j = bar
+    named = {"ahead": [k, j], "crossed": [k, j], "short": [k, j], "side": [k, t], "first": [k, t]}
+    return {rows[n][1] for n in named.get(word, [k])}
+
+
+def is_held(record, group, t):
+    """Whether a group has all owners of some bar of row t."""
+    return any(owners_in(record[1], bar) <= set(group) for bar in found_bars(record) if bar[1] == t)
+
+
+def breached_in(record):
+    return sorted({bar[1] for bar in found_bars(record)})
+
+
+def least_of(groups):
+    """Those of some groups that contain no other one of them."""
+    return tuple(sorted(group for group in groups if not any(set(other) < set(group) for other in groups)))
+
+
+def greatest_of(groups):
+    return tuple(sorted(group for group in groups if not any(set(other) > set(group) for other in groups)))
 
 
 # ---- made records and days ---------------------------------------------------------------------------------------
@@ -652,11 +717,51 @@ def made_record(rng, rule, many, begins_closed, fair, prices):
     return rule, rows
 
 
+def with_names(rng, record, names):
+    """The record with other members: each order is of one of these names."""
+    rule, rows = record
+    return rule, tuple(row[:1] + (rng.choice(names),) + row[2:] if row[0] == "order" else row for row in rows)
+
+
 def made_records(seed, count, many=8, fair=0.9, prices=PRICES):
     """Made records by each rule, some of them with a closed part."""
     rng = random.Random(seed)
     for k in range(count):
         yield made_record(rng, RULES[k % 3], rng.randint(1, many), k % 4 == 0, fair, prices)
+
+
+def called_records(seed, count, prices=PRICES):
+    """Made records with a closed part and a call, by each rule, with bars and without."""
+    rng = random.Random(seed)
+    for k in range(count):
+        rows = (("closed",),)
+        for _ in range(rng.randint(1, 4)):
+            rows += (order(rng.choice(MEMBERS), rng.choice(("buy", "sell")), rng.choice(prices), rng.randint(1, 3)),)
+        rows += (made_call_row(rng, rows, prices),)
+        for _ in range(rng.randint(0, 3)):
+            row = made_row(rng, rows, False, prices)
+            rows += (row,) if can_stand(rows, row) else (prints(),)
+        yield RULES[k % 3], rows
+
+
+def used_up_first(rng):
+    """A record by "late" with the bar "first", which chance hardly ever makes."""
+    took, taken, guest = rng.randint(1, 2), rng.randint(1, 3), rng.randint(1, 2)
+    rows = (prints(),) * rng.randint(0, 2)
+    n = len(rows)
+    rows += (order("ann", "buy", 10, took + taken, (9, took, None)), ("prints", ()))[:rng.randint(1, 2)]
+    rows += (order("bob", "sell", rng.choice((9, 10)), taken + guest, (10, taken, n), (10, guest, None)),)
+    return "late", rows + (order("cy", "buy", rng.choice((8, 11)), 1),)
+
+
+def barred_records(seed, count):
+    """Made records with one to five members, most of them with bars at several rows."""
+    rng = random.Random(seed)
+    for fair, prices, many in ((0.0, (9, 10, 11), 16), (0.4, (10, 11), 12), (0.7, (9, 10), 8)):
+        for record in made_records(seed, count // 4, many=many, fair=fair, prices=prices):
+            yield with_names(rng, record, NAMES[:rng.randint(1, 5)])
+    for _ in range(count // 4):
+        yield with_names(rng, used_up_first(rng), NAMES[:rng.randint(1, 5)])
 
 
 def made_days(seed, count, many=8):
@@ -678,3 +783,223 @@ def thirty_rows(rule):
     rows += [("prints", ((12, 1, 17),)), ("order", "eve", "sell", 14, 1, ()), ("prints", ((13, 1, 16),))]
     rows += [("cancel", 14), ("cancel", 25), ("prints", ())]
     return rule, tuple(rows)
+
+
+# ---- all books of a small record --------------------------------------------------------------------------------
+
+
+class SmallBooks:
+    """All books that a few strangers can make of the rows of a record, one row behind the other.
+
+    A book is a tuple of what rests, in the order in which it came: (the index of its row, or None for a stranger's,
+    side, price, rest). In prints each fill is a stranger's order of its own, which takes just this.
+    """
+
+    MOST = 2
+    SIZES = (1, 2)
+
+    def __init__(self, rule, rows):
+        self.rule = rule
+        self.rows = rows
+        self.to_strangers = [fill for row in rows for fill in own_fills(row) if fill[2] is None]
+        self.prices = sorted({row[3] for row in rows if row[0] == "order"}
+                             | {fill[0] for row in rows for fill in own_fills(row)})
+
+    def is_too_great(self):
+        """Whether these few strangers, or their sizes, are not enough to tell."""
+        called = any(row[0] == "call" for row in self.rows)
+        return called or len(self.to_strangers) > self.MOST or any(size > 2 for _, size, _ in self.to_strangers)
+
+    def longest(self):
+        """How many rows the longest beginning has that some book explains."""
+        books = {()}
+        for t, row in enumerate(self.rows):
+            books = self.behind(self.with_strangers(books, closed_before(self.rows, t)), t, row)
+            if not books:
+                return t
+        return len(self.rows)
+
+    def with_strangers(self, books, closed):
+        """All books behind any acts of strangers that trade nothing."""
+        found, waiting = set(books), list(books)
+        while waiting:
+            book = waiting.pop()
+            for other in self.with_one_act(book, closed):
+                if other not in found:
+                    found.add(other)
+                    waiting.append(other)
+        return found
+
+    def with_one_act(self, book, closed):
+        for k, one in enumerate(book):
+            if one[0] is None:
+                yield book[:k] + book[k + 1:]
+        if len([one for one in book if one[0] is None]) < self.MOST:
+            for side in ("buy", "sell"):
+                for price in self.prices:
+                    if closed or not self.next_ones(book, side, price):
+                        yield from (book + ((None, side, price, size),) for size in self.SIZES)
+
+    def next_ones(self, book, side, price):
+        """The indexes in the book of what an order of this side and price may take from next."""
+        there = [k for k, one in enumerate(book) if one[1] != side and crosses(side, price, one[2])]
+        best = (min if side == "buy" else max)((book[k][2] for k in there), default=None)
+        there = [k for k in there if book[k][2] == best]
+        return {"time": there[:1], "late": there[-1:], "price": there}[self.rule]
+
+    def less(self, book, k, size):
+        n, side, price, rest = book[k]
+        return book[:k] + (((n, side, price, rest - size),) if rest > size else ()) + book[k + 1:]
+
+    def behind(self, books, t, row):
+        if row[0] == "order":
+            return {other for book in books for other in self.behind_order(book, t, row)}
+        if row[0] == "cancel":
+            return {tuple(one for one in book if one[0] != row[1]) for book in books}
+        for x, size, n in own_fills(row):
+            books = self.with_strangers({other for book in books for other in self.behind_print(book, x, size, n)}, False)
+        return books
+
+    def behind_print(self, book, x, size, n):
+        for side in ("buy", "sell"):
+            for k in self.next_ones(book, side, x):
+                if (book[k][0], book[k][2]) == (n, x) and book[k][3] >= size:
+                    yield self.less(book, k, size)
+
+    def behind_order(self, book, t, row):
+        side, price, size, fills = row[2:]
+        if closed_before(self.rows, t):
+            return [book + ((t, side, price, size),)]
+        now = {(book, size)}
+        for fill in fills:
+            now = {(self.less(one, k, fill[1]), left - fill[1]) for one, left in now
+                   for k in self.next_ones(one, side, price) if left and fill == (
+                       one[k][2], min(left, one[k][3]), one[k][0])}
+        whole = [(one, left) for one, left in now if left == 0 or not self.next_ones(one, side, price)]
+        return [one + (((t, side, price, left),) if left else ()) for one, left in whole]
+
+
+# ---- values changed in one place --------------------------------------------------------------------------------
+
+
+def places(thing, path=()):
+    """The ways to all parts of a nested value, the value itself included."""
+    yield path
+    if isinstance(thing, tuple):
+        for k, part in enumerate(thing):
+            yield from places(part, path + (k,))
+
+
+def part_at(thing, path):
+    for k in path:
+        thing = thing[k]
+    return thing
+
+
+def changed(thing, path, part):
+    """The value with another part at the end of the way."""
+    if not path:
+        return part
+    return thing[:path[0]] + (changed(thing[path[0]], path[1:], part),) + thing[path[0] + 1:]
+
+
+def other_part(rng, part):
+    """Something near the part, or something quite different."""
+    if rng.random() < 0.1:
+        return rng.choice(ANY_VALUES)
+    if part is None:
+        return rng.choice((None, "ann", 9, 0))
+    if isinstance(part, int):
+        return rng.choice((part + 1, part - 1, 0, part + 2, None, True))
+    if isinstance(part, str):
+        return rng.choice(("ann", "bob", None, "buy", "sell", "time", "late", "price", "Ann", "cancel", "order"))
+    if not part:
+        return rng.choice((((9, 1, (0, 0)),), (order(None, "buy", 9, 1),), ("closed",), ((), ())))
+    k = rng.randrange(len(part))
+    return rng.choice((part[:k] + part[k + 1:], part[:k] + part[k:k + 1] + part[k:], part[::-1],
+                       part[:k] + part[k + 1:] + part[k:k + 1], list(part)))
+
+
+# ---- audits -----------------------------------------------------------------------------------------------------
+
+
+class OwnAudit:
+    """An audit of the tests' own, which keeps its events and tells everything from them again."""
+
+    def __init__(self, rule, members):
+        self.beginning = "audit", rule, members
+        self.events = []
+
+    def parts(self, many=None):
+        _, rule, members = self.beginning
+        rows = ()
+        for word, what in self.events[:many]:
+            if word == "row":
+                rows += (what,)
+            elif word == "rule":
+                rule = what
+            else:
+                members = tuple(sorted(set(members) ^ {what}))
+        return rule, rows, members
+
+    def view(self, many=None):
+        rule, rows, members = self.parts(many)
+        return seen_by((rule, rows), members)
+
+    def bars(self, many=None):
+        return found_bars(self.view(many))
+
+    def reason(self, event):
+        """Why an event by kind is not possible, or None."""
+        rule, rows, members = self.parts()
+        word, what = event
+        if len(self.events) == 60:
+            return "full"
+        if word == "row":
+            words = [("long", len(rows) == 30), ("many", what[0] == "order" and len(orders_in(rows)) == 10),
+                     ("row", first_fault((rule, rows + (what,))) != len(rows) + 1)]
+        elif word == "join":
+            words = [("there", what in members), ("many", len(members) == 5)]
+        elif word == "leave":
+            words = [("missing", what not in members)]
+        else:
+            words = [("same", what == rule)]
+        return next((reason for reason, applies in words if applies), None)
+
+    def lead(self, event):
+        """The bars that an event that is possible brings."""
+        before = self.bars()
+        self.events.append(event)
+        return tuple(bar for bar in self.bars() if bar not in before)
+
+
+def made_event(rng, own):
+    """An event by kind, most often a possible one."""
+    rule, rows, members = own.parts()
+    deed = rng.random()
+    if deed < 0.65:
+        return "row", made_row(rng, rows, closed_before(rows, len(rows)))
+    if deed < 0.8:
+        return "join", rng.choice(NAMES)
+    if deed < 0.9:
+        return "leave", rng.choice(members + ("zoe",))
+    return "rule", rng.choice(RULES)
+
+
+# ---- tests ------------------------------------------------------------------------------------------------------
+
+
+class Case(unittest.TestCase):
+    """A test that looks at errors with their fields, and at kinds: True is not 1."""
+
+    def fields(self, error, fields, deed):
+        with self.assertRaises(error) as caught:
+            deed()
+        self.assertIs(caught.exception.__class__, error)
+        self.assertEqual(sorted(vars(caught.exception)), sorted(fields))
+        for name, value in fields.items():
+            self.same(vars(caught.exception)[name], value)
+
+    def same(self, one, other):
+        self.assertEqual(one, other)
+        self.assertEqual(repr(one), repr(other))

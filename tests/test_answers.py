@@ -9,18 +9,10 @@ from fairshown.errors import NotUsable
 from fairshown.recordchecker import lets_record
 
 from helper import ANY_VALUES, RECORD, ROWS, RULES, closed_before, found_bars, groups_in, is_answer, made_days
-from helper import made_records, made_row, open_in, orders_in, record_told, seen_by, thirty_rows
+from helper import made_records, made_row, open_in, order, orders_in, prints, record_told, seen_by, thirty_rows
 
 GOOD = ("time", ROWS[:3])
 CLOSED = (("closed",), ("order", "ann", "buy", 10, 2, ()))
-
-
-def order(member, side, price, size, *fills):
-    return "order", member, side, price, size, fills
-
-
-def prints(*fills):
-    return "prints", fills
 
 
 def by_none_first(fills):

@@ -11,81 +11,9 @@ from fairshown.fronts import went_ahead
 from fairshown.groups import is_shown_by, least_groups, quiet_groups
 from fairshown.rulings import rules_of
 
-from helper import ANY_VALUES, MEMBERS, RECORD, ROWS, RULES, closed_before, first_fault, found_bars, front_of
-from helper import groups_in, is_open, made_row, orders_in, rest_of, seen_by, thirty_rows
-
-NAMES = ("ann", "bob", "cy", "dan", "eve", "flo")
-
-
-def order(member, side, price, size, *fills):
-    return "order", member, side, price, size, fills
-
-
-def prints(*fills):
-    return "prints", fills
-
-
-class OwnAudit:
-    """An audit of the tests' own, which keeps its events and tells everything from them again."""
-
-    def __init__(self, rule, members):
-        self.beginning = "audit", rule, members
-        self.events = []
-
-    def parts(self, many=None):
-        _, rule, members = self.beginning
-        rows = ()
-        for word, what in self.events[:many]:
-            if word == "row":
-                rows += (what,)
-            elif word == "rule":
-                rule = what
-            else:
-                members = tuple(sorted(set(members) ^ {what}))
-        return rule, rows, members
-
-    def view(self, many=None):
-        rule, rows, members = self.parts(many)
-        return seen_by((rule, rows), members)
-
-    def bars(self, many=None):
-        return found_bars(self.view(many))
-
-    def reason(self, event):
-        """Why an event by kind is not possible, or None."""
-        rule, rows, members = self.parts()
-        word, what = event
-        if len(self.events) == 60:
-            return "full"
-        if word == "row":
-            words = [("long", len(rows) == 30), ("many", what[0] == "order" and len(orders_in(rows)) == 10),
-                     ("row", first_fault((rule, rows + (what,))) != len(rows) + 1)]
-        elif word == "join":
-            words = [("there", what in members), ("many", len(members) == 5)]
-        elif word == "leave":
-            words = [("missing", what not in members)]
-        else:
-            words = [("same", what == rule)]
-        return next((reason for reason, applies in words if applies), None)
-
-    def lead(self, event):
-        """The bars that an event that is possible brings."""
-        before = self.bars()
-        self.events.append(event)
-        return tuple(bar for bar in self.bars() if bar not in before)
-
-
-def made_event(rng, own):
-    """An event by kind, most often a possible one."""
-    rule, rows, members = own.parts()
-    deed = rng.random()
-    if deed < 0.65:
-        return "row", made_row(rng, rows, closed_before(rows, len(rows)))
-    if deed < 0.8:
-        return "join", rng.choice(NAMES)
-    if deed < 0.9:
-        return "leave", rng.choice(members + ("zoe",))
-    return "rule", rng.choice(RULES)
+from helper import ANY_VALUES, MEMBERS, NAMES, RECORD, ROWS, RULES, OwnAudit, closed_before, found_bars
+from helper import front_of, groups_in, is_open, made_event, made_row, order, orders_in, prints, rest_of, seen_by
+from helper import thirty_rows
 
 
 def words_of(audit):

@@ -5,15 +5,8 @@ from fairshown.bars import bars_at, bars_of, first_bar, is_bar
 from fairshown.errors import NotUsable
 from fairshown.recordchecker import lets_record
 
-from helper import ANY_VALUES, RECORD, ROWS, RULES, found_bars, groups_in, made_records, seen_by, thirty_rows
-
-
-def order(member, side, price, size, *fills):
-    return "order", member, side, price, size, fills
-
-
-def prints(*fills):
-    return "prints", fills
+from helper import ANY_VALUES, RECORD, ROWS, RULES, found_bars, groups_in, made_records, order, prints, seen_by
+from helper import thirty_rows
 
 
 class Words(unittest.TestCase):

@@ -6,11 +6,8 @@ from fairshown.daychecker import lets_day
 from fairshown.errors import InvalidPaper
 from fairshown.explaining import day_for
 
-from helper import ANY_VALUES, RECORD, RULES, day_fault, found_bars, made_days, made_records
-
-
-def order(member, side, price, size, *fills):
-    return "order", member, side, price, size, fills
+from helper import ANY_VALUES, RECORD, RULES, changed, day_fault, found_bars, made_days, made_records, order, other_part
+from helper import part_at, places
 
 
 def told(thing):
@@ -19,44 +16,6 @@ def told(thing):
         return lets_day(thing)
     except InvalidPaper as error:
         return error.word, error.at
-
-
-def places(thing, path=()):
-    """The ways to all parts of a nested value, the value itself included."""
-    yield path
-    if isinstance(thing, tuple):
-        for k, part in enumerate(thing):
-            yield from places(part, path + (k,))
-
-
-def part_at(thing, path):
-    for k in path:
-        thing = thing[k]
-    return thing
-
-
-def changed(thing, path, part):
-    """The value with another part at the end of the way."""
-    if not path:
-        return part
-    return thing[:path[0]] + (changed(thing[path[0]], path[1:], part),) + thing[path[0] + 1:]
-
-
-def other_part(rng, part):
-    """Something near the part, or something quite different."""
-    if rng.random() < 0.1:
-        return rng.choice(ANY_VALUES)
-    if part is None:
-        return rng.choice((None, "ann", 9, 0))
-    if isinstance(part, int):
-        return rng.choice((part + 1, part - 1, 0, part + 2, None, True))
-    if isinstance(part, str):
-        return rng.choice(("ann", "bob", None, "buy", "sell", "time", "late", "price", "Ann", "cancel", "order"))
-    if not part:
-        return rng.choice((((9, 1, (0, 0)),), (order(None, "buy", 9, 1),), ("closed",), ((), ())))
-    k = rng.randrange(len(part))
-    return rng.choice((part[:k] + part[k + 1:], part[:k] + part[k:k + 1] + part[k:], part[::-1],
-                       part[:k] + part[k + 1:] + part[k:k + 1], list(part)))
 
 
 class LetsDay(unittest.TestCase):

@@ -8,15 +8,11 @@ from fairshown.errors import NotUsable
 from fairshown.explaining import day_for, explained_rows, is_explained
 from fairshown.recordchecker import lets_record
 
-from helper import ANY_VALUES, RECORD, ROWS, RULES, found_bars, groups_in, led, made_days, made_records, record_told
-from helper import seen_by
+from helper import ANY_VALUES, RECORD, ROWS, RULES, found_bars, groups_in, led, made_days, made_records, order
+from helper import record_told, seen_by
 
 DAY = ('time', ((('order', None, 'buy', 10, 1, ()), ('order', 'ann', 'buy', 10, 3, ())),
                 (('order', None, 'sell', 10, 2, ((10, 1, (0, 0)), (10, 1, (0, 1)))),)))
-
-
-def order(member, side, price, size, *fills):
-    return "order", member, side, price, size, fills
 
 
 def orders_of(day):

@@ -7,36 +7,17 @@ from fairshown.errors import InvalidPaper
 from fairshown.explainchecker import lets_explained
 from fairshown.explaining import day_for
 
-from helper import ANY_VALUES, RECORD, ROWS, RULES, day_fault, first_fault, found_bars, made_days
-from helper import made_records, record_told, thirty_rows
+from helper import ANY_VALUES, RECORD, ROWS, RULES, explain_answer, first_fault, made_days, made_records, record_told
+from helper import thirty_rows
 
 DAY = ('time', ((('order', None, 'buy', 10, 1, ()), ('order', 'ann', 'buy', 10, 3, ())),
                 (('order', None, 'sell', 10, 2, ((10, 1, (0, 0)), (10, 1, (0, 1)))),)))
 
 
-def right_answer(record, thing):
-    """What the checker has to return, or the fields of its error."""
-    if type(thing) is not tuple or len(thing) != 2 or thing[0] not in ("day", "bar"):
-        return "form", -1
-    word, what = thing
-    if word == "bar":
-        return False if repr(what) in [repr(bar) for bar in found_bars(record)] else ("bar", -1)
-    fault = day_fault(what)
-    if not isinstance(fault, int):
-        return fault
-    told = record_told(what)
-    if told[0] != record[0]:
-        return "by", -1
-    for t in range(max(len(told[1]), len(record[1]))):
-        if told[1][t:t + 1] != record[1][t:t + 1]:
-            return "row", t
-    return True
-
-
 class LetsExplained(unittest.TestCase):
     def check(self, record, thing):
         before = copy.deepcopy((record, thing))
-        right = right_answer(record, thing)
+        right = explain_answer(record, thing)
         if isinstance(right, bool):
             self.assertIs(lets_explained(record, thing), right)
         else:

@@ -4,16 +4,8 @@ from fairshown.bars import bars_of
 from fairshown.explaining import day_for, explained_rows, is_explained
 from fairshown.recordchecker import lets_record
 
-from helper import DayError, RECORD, ROWS, RULES, found_bars, groups_in, made_days, made_records, record_told, seen_by
-from helper import thirty_rows
-
-
-def order(member, side, price, size, *fills):
-    return "order", member, side, price, size, fills
-
-
-def prints(*fills):
-    return "prints", fills
+from helper import RECORD, ROWS, RULES, DayError, found_bars, groups_in, made_days, made_records, order, prints
+from helper import record_told, seen_by, thirty_rows
 
 
 class Explaining(unittest.TestCase):

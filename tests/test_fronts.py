@@ -7,15 +7,7 @@ from fairshown.fronts import front_since, fronts_at, stood_before, took_as_it_ca
 from fairshown.recordchecker import lets_record
 
 from helper import ANY_VALUES, RECORD, ROWS, RULES, first_fault, front_of, is_open, led, made_days, made_records
-from helper import open_in, orders_in, own_fills, record_told, rest_of, took_and_rested
-
-
-def order(member, side, price, size, *fills):
-    return "order", member, side, price, size, fills
-
-
-def prints(*fills):
-    return "prints", fills
+from helper import open_in, order, orders_in, own_fills, prints, record_told, rest_of, took_and_rested
 
 
 def fills_to_strangers(rows, n):

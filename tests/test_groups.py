@@ -4,12 +4,8 @@ import unittest
 from fairshown.errors import UnknownMember
 from fairshown.groups import first_row_shown, is_shown_by, least_groups, quiet_groups
 
-from helper import ANY_VALUES, RECORD, ROWS, RULES, found_bars, groups_in, made_days, made_records, record_told
-from helper import seen_by, thirty_rows
-
-
-def order(member, side, price, size, *fills):
-    return "order", member, side, price, size, fills
+from helper import ANY_VALUES, RECORD, ROWS, RULES, found_bars, greatest_of, groups_in, least_of, made_days, made_records
+from helper import order, record_told, seen_by, thirty_rows
 
 
 # ann and bob show nothing alone: only together do they know two orders that cross.
@@ -18,14 +14,6 @@ PAIR = (order("ann", "buy", 10, 3), order("cy", "buy", 9, 1), order("bob", "sell
 
 def shown_groups(record):
     return [group for group in groups_in(record[1]) if found_bars(seen_by(record, group))]
-
-
-def least_of(groups):
-    return tuple(sorted(group for group in groups if not any(set(other) < set(group) for other in groups)))
-
-
-def greatest_of(groups):
-    return tuple(sorted(group for group in groups if not any(set(other) > set(group) for other in groups)))
 
 
 class Groups(unittest.TestCase):

@@ -48,6 +48,19 @@ INTERFACE = {
     "recordreadings": {"row_read": "(text, *, line=0, field=0)", "record_read": "(text)"},
     "eventreadings": {"read_event": "(text)", "read_log": "(lines)"},
     "explainchecker": {"lets_explained": "(record, thing)"},
+    "explainpapers": {"explain_paper": "(record)"},
+    "groupchecker": {"lets_groups": "(record, thing)"},
+    "grouppapers": {"group_paper": "(record)"},
+    "holders": {
+        "owners_of": "(record, bar)", "receipts_of": "(record, bar)", "breached_rows": "(record)",
+        "holders_at": "(record, t)", "nobody_shows": "(record, members)",
+    },
+    "replaying": {"is_log": "(thing)", "replayed": "(log)"},
+    "rulechecker": {"lets_rules": "(record, thing)"},
+    "rulepapers": {"rule_paper": "(record)"},
+    "witnesses": {"witness_groups": "(record)"},
+    "witnesspapers": {"witness_paper": "(record)"},
+    "witnesschecker": {"lets_witness": "(record, thing)"},
 }
 
 # module: {class: {method: its parameters behind self}}; properties have None
@@ -69,6 +82,22 @@ CLASSES = {
         "__str__": "()",
     }},
     "desk": {"Desk": {"__init__": "()", "say": "(row)", "counts": "()"}},
+    "recordclasses": {
+        "Record": {
+            "__init__": "(rule, rows)", "rule": None, "rows": None, "form": None, "members": None,
+            "__getitem__": "(t)", "__contains__": "(n)", "__len__": "()", "__iter__": "()", "__eq__": "(other)",
+            "__str__": "()", "__add__": "(other)", "__and__": "(other)", "by": "(rule)", "cut": "(t)",
+            "__call__": "(n, t)", "walk": "()",
+        },
+        "View": {"__init__": "(rec, *members)", "source": None, "lift": "()"},
+        "Beginning": {"__init__": "(rec, t)", "source": None, "later": "()"},
+    },
+    "watching": {"Watch": {
+        "__init__": "(rule)", "record": None, "bars": None, "first": None, "standing": None, "fronts": None,
+        "lead": "(row)", "would": "(row)", "back": "()", "__len__": "()", "__contains__": "(thing)",
+        "__getitem__": "(n)", "__iter__": "()", "each": "()", "__enter__": "()", "__exit__": "(kind, value, trace)",
+        "copy": "()", "__eq__": "(other)",
+    }},
 }
 
 ERROR_FIELDS = {
@@ -111,8 +140,23 @@ class Interface(unittest.TestCase):
         for module, name in (("answers", "answers_to"), ("takings", "takings"), ("calls", "call_fills")):
             found = importlib.import_module("fairshown." + module)
             self.assertTrue(inspect.isgeneratorfunction(vars(found)[name]), name)
-        books = importlib.import_module("fairshown.books")
-        self.assertTrue(inspect.isgeneratorfunction(books.Book.resting))
+        for module, made, name in (("books", "Book", "resting"), ("recordclasses", "Record", "walk"),
+                                   ("watching", "Watch", "each")):
+            found = importlib.import_module("fairshown." + module)
+            self.assertTrue(inspect.isgeneratorfunction(vars(vars(found)[made])[name]), name)
+
+    def test_methods_of_the_class_record(self):
+        found = vars(importlib.import_module("fairshown.recordclasses").Record)
+        self.assertIsInstance(found["parsed"], classmethod)
+        self.assertEqual(str(inspect.signature(found["parsed"].__func__)), "(cls, text)")
+        for name in ("opened", "shut"):
+            self.assertIsInstance(found[name], staticmethod)
+            self.assertEqual(str(inspect.signature(found[name].__func__)), "(rule)")
+
+    def test_derived_classes(self):
+        found = importlib.import_module("fairshown.recordclasses")
+        for name in ("View", "Beginning"):
+            self.assertEqual(vars(found)[name].__mro__[1:], (found.Record, object))
 
     def test_errors_take_their_fields(self):
         errors = importlib.import_module("fairshown.errors")

@@ -18,7 +18,8 @@ METHODS = {
     "startswith", "strip", "update", "upper", "values", "zfill", "__init__",
 }
 STATEMENTS = (ast.Global, ast.AsyncFunctionDef, ast.Await, ast.Match, ast.Lambda, ast.GeneratorExp, ast.Set)
-OPERATORS = {"__contains__", "__getitem__", "__eq__", "__len__", "__iter__", "__str__"}
+ARITHMETIC = {"__add__", "__and__"}
+OPERATORS = {"__contains__", "__getitem__", "__eq__", "__len__", "__iter__", "__str__"} | ARITHMETIC
 SPECIAL = OPERATORS | {"__init__", "__call__", "__enter__", "__exit__"}
 MUTATORS = {"append", "clear", "extend", "insert", "pop", "remove", "reverse", "setdefault", "update", "sort", "add"}
 MADE_HERE = (ast.List, ast.Dict, ast.ListComp)
@@ -44,8 +45,16 @@ def methods():
     return [node for made in classes() for node in made.body if isinstance(node, ast.FunctionDef)]
 
 
+def decorators(function):
+    return [node.id for node in function.decorator_list]
+
+
 def is_property(function):
-    return [node.id for node in function.decorator_list] == ["property"]
+    return decorators(function) == ["property"]
+
+
+def is_of_the_class(function):
+    return decorators(function) in (["staticmethod"], ["classmethod"])
 
 
 def is_generator(function):
@@ -112,7 +121,8 @@ class Language(unittest.TestCase):
         for path, tree in trees():
             for node in functions(tree):
                 self.assertLessEqual(node.end_lineno - node.lineno + 1, 40, (path, node.name))
-                self.assertTrue(node.decorator_list == [] or is_property(node), (path, node.name))
+                plain = node.decorator_list == [] or is_property(node) or is_of_the_class(node)
+                self.assertTrue(plain, (path, node.name))
                 nested = [other for other in functions(node) if other is not node]
                 self.assertEqual(nested, [], (path, node.name))
 
@@ -128,6 +138,19 @@ class Language(unittest.TestCase):
                 self.assertEqual(node.body[-1].value.func.id, "len")
             if node.name in ("__eq__", "__str__"):
                 self.assertFalse([part for part in ast.walk(node) if isinstance(part, (ast.Assign, ast.AugAssign))])
+            if node.name in ARITHMETIC:
+                self.assertEqual([part.arg for part in node.args.args], ["self", "other"])
+
+    def test_what_str_returns(self):
+        """A string, an f-string, a call of str or the join of a literal, and nothing is added up."""
+        for node in methods():
+            if node.name == "__str__":
+                self.assertFalse([part for part in ast.walk(node) if isinstance(part, ast.BinOp)])
+                for part in ast.walk(node):
+                    if isinstance(part, ast.Return) and isinstance(part.value, ast.Call):
+                        self.assertIn(ast.unparse(part.value.func), ("str", "' / '.join"))
+                    elif isinstance(part, ast.Return):
+                        self.assertIsInstance(part.value, (ast.Constant, ast.JoinedStr))
 
     def test_classes_with_items_are_not_iterated_over_by_chance(self):
         for made in classes():
@@ -147,6 +170,9 @@ class Language(unittest.TestCase):
         for _, tree in trees():
             for node in functions(tree):
                 by_name.setdefault(node.name, []).append(node)
+        for made in classes():
+            # Who calls a class calls its __init__, which changes the new object alone.
+            by_name[made.name] = [node for node in made.body if getattr(node, "name", "") == "__init__"]
         waiting = [node for node in methods() if node.name in OPERATORS or is_property(node)]
         reached = []
         while waiting:
@@ -157,7 +183,11 @@ class Language(unittest.TestCase):
                             if name not in METHODS and not name.startswith("__")]
         self.assertGreater(len(reached), 40)
         for node in reached:
-            self.assertEqual(list(changes(node)), [], node.name)
+            found = list(changes(node))
+            if node.name == "__init__":
+                self.assertTrue(all(change.startswith("self.") for change in found), found)
+            else:
+                self.assertEqual(found, [], node.name)
 
     def test_exit_only_assigns(self):
         for node in methods():
@@ -169,18 +199,35 @@ class Language(unittest.TestCase):
 
     def test_names_of_properties_methods_and_generators(self):
         properties = {node.name for node in methods() if is_property(node)}
-        plain = {node.name for node in methods() if not is_property(node)}
+        of_classes = {node.name for node in methods() if is_of_the_class(node)}
+        plain = {node.name for node in methods() if not is_property(node) and not is_of_the_class(node)}
         values = {line.targets[0].id for made in classes() for line in made.body if isinstance(line, ast.Assign)}
         stored = {node.attr for _, tree in trees() for node in ast.walk(tree)
                   if isinstance(node, ast.Attribute) and isinstance(node.ctx, ast.Store)}
         self.assertEqual(properties & (plain | values | stored), set())
         self.assertEqual(plain & (values | stored), set())
+        self.assertEqual(of_classes & (plain | properties | values | stored), set())
         everywhere = [node for _, tree in trees() for node in functions(tree)]
         generators = {node.name for node in everywhere if is_generator(node)}
         for node in everywhere:
             self.assertTrue(node.name not in generators or is_generator(node), node.name)
         self.assertEqual(generators & METHODS, set())
         self.assertNotIn("_record", {name.rstrip("0123456789_") for name in stored})
+
+    def test_class_and_static_methods(self):
+        for node in methods():
+            if is_of_the_class(node):
+                self.assertFalse(is_generator(node), node.name)
+                self.assertNotIn("super", called(node))
+            if decorators(node) == ["classmethod"]:
+                self.assertEqual(node.args.args[0].arg, "cls")
+
+    def test_a_base_class_is_asked_for_its_init_alone(self):
+        names = {made.name for made in classes()}
+        for made in classes():
+            for node in ast.walk(made):
+                if isinstance(node, ast.Attribute) and isinstance(node.value, ast.Name) and node.value.id in names:
+                    self.assertTrue(node.attr == "__init__" or node.attr.isupper(), (made.name, node.attr))
 
     def test_own_errors_alone_are_caught(self):
         errors = {node.name for path, tree in trees() if path.stem == "errors" for node in tree.body
