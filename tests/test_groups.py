@@ -27,6 +27,14 @@ class Groups(unittest.TestCase):
                 self.assertEqual(first_row_shown(record, group), row)
                 self.assertIs(is_shown_by(record, group), row is not None)
 
+    def test_groups_ascend_as_tuples(self):
+        """ann and cy together come before bob alone."""
+        rows = (order("bob", "buy", 12, 1), ("prints", ((11, 1, None),)), ("cancel", 0)) + PAIR[:1] + (
+            order("dan", "buy", 9, 1), order("cy", "sell", 10, 3))
+        for rule in RULES:
+            self.assertEqual(least_groups((rule, rows)), (("ann", "cy"), ("bob",)))
+            self.assertEqual(quiet_groups((rule, rows)), (("ann", "dan"), ("cy", "dan")))
+
     def test_one_member(self):
         self.assertEqual([least_groups(RECORD), quiet_groups(RECORD)], [(("ann",),), (("bob",),)])
         self.assertEqual([least_groups(("late", ROWS)), quiet_groups(("late", ROWS))],
